@@ -22,6 +22,11 @@ OWN_NAMES_OF_PYTHON = set(
     "ArithmeticError OverflowError RuntimeError NotImplementedError AttributeError StopIteration".split()
 )
 DOUBLE_UNDERSCORED = {"__init__", "__eq__", "__repr__", "__str__", "__len__", "__all__", "__version__"}
+METHODS_OF_PYTHON = set(
+    "append clear copy count endswith extend find get index insert isalnum isalpha isdigit islower isspace isupper "
+    "items join keys ljust lower lstrip partition pop remove replace reverse rfind rjust rpartition rsplit rstrip "
+    "setdefault split splitlines startswith strip update upper values zfill bit_length".split()
+)
 BARRED_WORDS = re.compile(
     r"\b(type|typing|typing_extensions|enum|Enum|IntEnum|StrEnum|Flag|IntFlag|Generic|Protocol|ABC|ABCMeta|namedtuple"
     r"|NamedTuple|TypedDict|TYPE_CHECKING|abstractmethod)\b|dataclass|overload|contextmanager"
@@ -44,6 +49,16 @@ def bound_names(node):
     if isinstance(node, (ast.FunctionDef, ast.ClassDef)):
         return [node.name]
     return []
+
+
+def own_methods():
+    classes = [node for path in sources() for node in nodes(path) if isinstance(node, ast.ClassDef)]
+    return {part.name for node in classes for part in node.body if isinstance(part, ast.FunctionDef)}
+
+
+def own_values():
+    found = [node for path in sources() for node in nodes(path) if isinstance(node, ast.Attribute)]
+    return {node.attr for node in found if isinstance(node.ctx, ast.Store)}
 
 
 class LanguageTest(unittest.TestCase):
@@ -99,6 +114,40 @@ class LanguageTest(unittest.TestCase):
                     if isinstance(node, ast.Name) and hasattr(builtins, node.id):
                         self.assertIn(node.id, OWN_NAMES_OF_PYTHON)
                         self.assertIsInstance(node.ctx, ast.Load)
+
+    def test_methods_and_values(self):
+        self.assertEqual(own_methods() & own_values(), set())
+        python_has = {name for kind in (str, int, list, dict, set, bytes) for name in dir(kind)}
+        self.assertEqual((own_methods() - DOUBLE_UNDERSCORED) & python_has, set())
+        self.assertEqual(own_values() & python_has, set())
+        for path in sources():
+            with self.subTest(file=path.name):
+                for node in nodes(path):
+                    if isinstance(node, ast.Attribute):
+                        self.assertIn(node.attr, METHODS_OF_PYTHON | own_methods() | own_values())
+
+    def test_locals_are_not_called_like_classes_or_imports(self):
+        for path in sources():
+            with self.subTest(file=path.name):
+                imports = [node for node in nodes(path) if isinstance(node, ast.ImportFrom)]
+                taken = {alias.asname or alias.name for node in imports for alias in node.names}
+                taken |= {node.name for node in nodes(path) if isinstance(node, ast.ClassDef)}
+                for node in nodes(path):
+                    if isinstance(node, (ast.Name, ast.arg)):
+                        self.assertEqual(set(bound_names(node)) & (taken | set(dir(builtins))), set())
+
+    def test_powers_texts_and_is(self):
+        for path in sources():
+            with self.subTest(file=path.name):
+                for node in nodes(path):
+                    if isinstance(node, ast.BinOp) and isinstance(node.op, ast.Pow):
+                        self.assertIsInstance(node.right, ast.Constant)
+                    if isinstance(node, ast.Constant) and isinstance(node.value, str):
+                        self.assertNotIn("%", node.value)
+                    if isinstance(node, ast.Compare):
+                        for sign, beside in zip(node.ops, node.comparators):
+                            if isinstance(sign, (ast.Is, ast.IsNot)):
+                                self.assertIsInstance(beside, ast.Constant)
 
 
 if __name__ == "__main__":

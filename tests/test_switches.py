@@ -5,7 +5,7 @@ import unittest
 from onechange.errors import NoListing, NoNumber, NoThing
 from onechange.listings import Listing
 from onechange.switches import Switches
-from tests.refusals import FAR_NUMBERS, RefusalCase
+from tests.cases import FAR_NUMBERS, RefusalCase
 
 
 def written_out(many):
